@@ -165,6 +165,17 @@ func (s byteSet) pairs() []int {
 	return out
 }
 
+// members answers the bytes of the set in ascending order.
+func (s byteSet) members() []int {
+	var out []int
+	for b := range bytesInAll {
+		if s.has(b) {
+			out = append(out, b)
+		}
+	}
+	return out
+}
+
 func setOf(pairs []int) byteSet {
 	var s byteSet
 	for i := 0; i < len(pairs); i += 2 {
